@@ -1,0 +1,44 @@
+"""That all names of the interface are there, in their files, with their parameters."""
+
+import importlib
+import inspect
+import unittest
+
+INTERFACE = {
+    "sayings": {
+        "is_saying": ["value"],
+        "saying_chance": ["saying"],
+        "is_possible": ["saying"],
+        "inner_blocks": ["saying"],
+        "barring_weights": ["saying"],
+        "greatest_closed": ["saying"],
+        "least_open": ["saying"],
+        "mirrored_saying": ["saying"],
+    },
+    "bands": {
+        "is_band": ["value"],
+        "band_box": ["band"],
+        "band_sureness": ["band"],
+        "even_band": ["count", "width"],
+        "even_sureness": ["count", "width"],
+        "one_sided_sureness": ["count", "width"],
+        "even_pieces": ["count"],
+        "even_width_near": ["count", "share", "many"],
+    },
+}
+
+
+class Interface(unittest.TestCase):
+    def test_that_each_function_is_defined_in_its_file_with_its_parameters(self):
+        for module_name, functions in INTERFACE.items():
+            module = importlib.import_module("anydraws." + module_name)
+            for name, parameters in functions.items():
+                with self.subTest(name):
+                    function = getattr(module, name)
+                    self.assertTrue(inspect.isfunction(function))
+                    self.assertEqual(function.__module__, "anydraws." + module_name)
+                    told = inspect.signature(function).parameters
+                    self.assertEqual(list(told), parameters)
+                    for parameter in told.values():
+                        self.assertEqual(parameter.kind, inspect.Parameter.POSITIONAL_OR_KEYWORD)
+                        self.assertIs(parameter.default, inspect.Parameter.empty)
