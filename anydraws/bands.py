@@ -1,6 +1,8 @@
 """Bands around the whole distribution, and how surely they hold it."""
 
-from anydraws.checks import check_number, check_share, check_share_above_nought, is_share, is_tuple
+from anydraws.checks import (
+    check_number, check_share, check_share_above_nought, first_without_shares, is_pair_of_rows,
+)
 from anydraws.errors import InvalidBand
 from anydraws.evens import kept_chance
 from anydraws.ratios import greater, is_below, lesser, minus, plus, reduced, times
@@ -20,20 +22,11 @@ def is_band(value):
 
 
 def check_band(band):
-    if not is_pair_of_rows(band):
+    if not is_pair_of_rows(band, 2, _MOST_DRAWS + 1):
         raise InvalidBand(None)
-    for k, bounds in enumerate(band):
-        if not all(is_share(bound) for bound in bounds):
-            raise InvalidBand(k)
-
-
-def is_pair_of_rows(value):
-    if not is_tuple(value) or len(value) != 2:
-        return False
-    low, high = value
-    if not is_tuple(low) or not is_tuple(high):
-        return False
-    return len(low) == len(high) and 2 <= len(low) <= _MOST_DRAWS + 1
+    wrong = first_without_shares(band)
+    if wrong is not None:
+        raise InvalidBand(wrong)
 
 
 def band_box(band):

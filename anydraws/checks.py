@@ -2,7 +2,7 @@
 
 from math import gcd
 
-from anydraws.errors import InvalidNumber, InvalidShare
+from anydraws.errors import InvalidNumber, InvalidShare, InvalidStretch, InvalidWish
 
 
 def is_tuple(value):
@@ -26,6 +26,36 @@ def is_share(value):
     return is_fraction(value) and 0 <= value[0] <= value[1]
 
 
+def is_inner_share(value):
+    """Whether it is a fraction above 0 and below 1."""
+    return is_fraction(value) and 0 < value[0] < value[1]
+
+
+def is_stretch(value, count):
+    if not is_tuple(value) or len(value) != 2:
+        return False
+    i, j = value
+    return is_whole(i) and is_whole(j) and 0 <= i < j <= count + 1
+
+
+def is_pair_of_rows(value, least, most):
+    """Whether it is a pair of two tuples of as many elements, from least up to most."""
+    if not is_tuple(value) or len(value) != 2:
+        return False
+    lows, highs = value
+    if not is_tuple(lows) or not is_tuple(highs):
+        return False
+    return len(lows) == len(highs) and least <= len(lows) <= most
+
+
+def first_without_shares(rows):
+    """The index of the first of these tuples that has an element that is no share, or None."""
+    for k, row in enumerate(rows):
+        if not all(is_share(number) for number in row):
+            return k
+    return None
+
+
 def check_number(value, most):
     if not is_whole(value) or not 1 <= value <= most:
         raise InvalidNumber(value)
@@ -39,3 +69,18 @@ def check_share(value):
 def check_share_above_nought(value):
     if not is_share(value) or value[0] == 0:
         raise InvalidShare(value)
+
+
+def check_inner_share(value):
+    if not is_inner_share(value):
+        raise InvalidShare(value)
+
+
+def check_wish(value):
+    if not is_share(value) or value[0] == 0:
+        raise InvalidWish(value)
+
+
+def check_stretch(value, count):
+    if not is_stretch(value, count):
+        raise InvalidStretch(value)

@@ -53,6 +53,14 @@ def power(base, exponent):
     return worth
 
 
+def powers(base, most):
+    """The powers of the base with the exponents from 0 to most."""
+    worths = [1]
+    for _ in range(most):
+        worths.append(worths[-1] * base)
+    return worths
+
+
 def unit_rows(count):
     """For each of so many places the row with 1 there and 0 elsewhere."""
     return [[1 if j == k else 0 for j in range(count)] for k in range(count)]

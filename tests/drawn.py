@@ -1,7 +1,11 @@
 """What the tests share: fractions as pairs, drawn arguments, things of any kind."""
 
+from collections import Counter
 from fractions import Fraction
-from math import comb, gcd
+from itertools import combinations_with_replacement
+from math import comb, factorial, gcd
+
+nil, one = (0, 1), (1, 1)
 
 
 def pair(number):
@@ -39,6 +43,40 @@ def drawn_saying(rng, rows=None, count=None, **bounds):
 def drawn_share(rng, most=12):
     m = rng.randint(1, most)
     return pair(Fraction(rng.randint(0, m), m))
+
+
+def drawn_inner_share(rng, most=12):
+    m = rng.randint(2, most)
+    return pair(Fraction(rng.randint(1, m - 1), m))
+
+
+def drawn_atoms(rng, atoms=None, most=6):
+    """Shares of so many atoms."""
+    weights = [rng.randint(1, most) for _ in range(atoms or rng.randint(1, 5))]
+    return tuple(pair(Fraction(weight, sum(weights))) for weight in weights)
+
+
+def drawn_band(rng, n):
+    low = (nil,) + tuple(drawn_share(rng, 8) for _ in range(n))
+    high = tuple(drawn_share(rng, 8) for _ in range(n)) + (one,)
+    return (low, high)
+
+
+def wide_band(rng, n):
+    """A band of n that may well be kept: its low is below half, its high above."""
+    low = (nil,) + tuple(pair(number(drawn_share(rng, 6)) / 2) for _ in range(n))
+    high = tuple(pair(1 - number(drawn_share(rng, 6)) / 2) for _ in range(n)) + (one,)
+    return (low, high)
+
+
+def all_throws(throws, chances):
+    """All ways in which throws fall, alike counts together: pairs of the places in order and their chance."""
+    for places in combinations_with_replacement(range(len(chances)), throws):
+        chance = Fraction(factorial(throws))
+        for place, number_of in Counter(places).items():
+            chance *= chances[place] ** number_of
+            chance /= factorial(number_of)
+        yield places, chance
 
 
 def opposite(row):
@@ -136,8 +174,44 @@ def not_fractions():
     ]
 
 
+def not_counts():
+    """Values that are no whole number of draws, for whichever function."""
+    return odd_things() + deepest_things() + [0, -1, one, "1", Fraction(1), 10 ** 399, -10 ** 399]
+
+
 def not_shares():
     return not_fractions() + [(-1, 2), (3, 2), (2, 1), (-1, 1), (10 ** 399 + 1, 10 ** 399), (-1, 10 ** 399)]
+
+
+def not_inner_shares():
+    return not_shares() + [nil, one]
+
+
+def not_pairs_of_tuples():
+    row = (nil, one)
+    near = [
+        (), (row,), (row, row, row), [row, row], (list(row), row), (row, list(row)), (row, None), (None, row),
+        {0: row, 1: row}, (row, "ab"), (row, {0: nil, 1: one}), (row, row, None),
+    ]
+    for thing in odd_things() + deepest_things():
+        if not (type(thing) is tuple and [type(part) for part in thing] == [tuple, tuple]):
+            near.append(thing)
+    return near
+
+
+def not_wishes():
+    return not_shares() + deepest_things() + [nil]
+
+
+def not_stretches(n):
+    """Values that are no stretch of n draws."""
+    wrong = odd_things() + [
+        (0, 0), (1, 0), (1, 1), (n, n), (n + 1, n + 1), (n + 1, n), (n + 1, n + 2), (0, n + 2), (n, n + 2), (-1, 1),
+        (-1, 0), (-2, -1), (-n, n), (0, -1), (0, 10 ** 399), (-10 ** 399, 1), (0, 1, 1), (0,), [0, 1], (True, n + 1),
+        (False, 1), (0, True), (0, None), (None, 1), ("0", 1), (0, "1"), ((0, 1), 1), (0, (1, 1)), (0, Fraction(1)),
+        ((0, 1), (1, 1)), (0, 1, n + 1), {0: 0, 1: 1}, "01", 1, (n + 1, 0), (0, [1]),
+    ]
+    return wrong + deepest_things()
 
 
 def deepest_things():

@@ -8,25 +8,16 @@ from anydraws.bands import (
 )
 from anydraws.errors import InvalidBand, InvalidNumber, InvalidShare
 from anydraws.sayings import saying_chance
+from anydraws.steps import band_chance
 from tests.drawn import (
-    counted_chance, deepest_things, drawn_share, is_told_fraction, not_shares, number, odd_things, pair,
+    counted_chance, deepest_things, drawn_band, drawn_share, is_told_fraction, not_counts, not_pairs_of_tuples,
+    not_shares, number, odd_things, pair, wide_band,
 )
+from tests.raising import RaisingCase
 
 nil, one, half, third = (0, 1), (1, 1), (1, 2), (1, 3)
 apart = ((nil, half), (half, one))
-
-
-def drawn_band(rng, n):
-    low = (nil,) + tuple(drawn_share(rng, 8) for _ in range(n))
-    high = tuple(drawn_share(rng, 8) for _ in range(n)) + (one,)
-    return (low, high)
-
-
-def wide_band(rng, n):
-    """A band of n that may well be kept: its low is below half, its high above."""
-    low = (nil,) + tuple(pair(number(drawn_share(rng, 6)) / 2) for _ in range(n))
-    high = tuple(pair(1 - number(drawn_share(rng, 6)) / 2) for _ in range(n)) + (one,)
-    return (low, high)
+quarters = ((1, 4),) * 4
 
 
 def worth(numbers, width):
@@ -64,8 +55,10 @@ class Examples(unittest.TestCase):
         ))
 
     def test_widths(self):
+        wide = even_band(2, half)
         told = [even_width_near(2, half, 10), even_width_near(2, one, 7), even_width_near(1, half, 9)]
-        self.assertEqual(told, [(5, True), (7, True), (6, False)])
+        told += [band_chance(wide, (half, half)), band_chance(wide, quarters)]
+        self.assertEqual(told, [(5, True), (7, True), (6, False), (1, 1), (7, 8)])
 
 
 class BandBox(unittest.TestCase):
@@ -385,15 +378,8 @@ class WrongBands(unittest.TestCase):
                 self.assertIsNot(type(caught.exception.index), bool)
 
     def test_no_pair_of_tuples(self):
-        row = (nil, one)
-        for thing in odd_things() + deepest_things():
-            if not (type(thing) is tuple and [type(part) for part in thing] == [tuple, tuple]):
-                self.wrong(thing, None)
-        for band in (
-            (), (row,), (row, row, row), [row, row], (list(row), row), (row, list(row)), (row, None), (None, row),
-            {0: row, 1: row}, (row, "ab"), (row, {0: nil, 1: one}),
-        ):
-            self.wrong(band, None)
+        for thing in not_pairs_of_tuples():
+            self.wrong(thing, None)
 
     def test_the_number_of_shares(self):
         for low in range(12):
@@ -420,42 +406,33 @@ class WrongBands(unittest.TestCase):
             self.wrong(((nil,) * 9, (one,) * 4 + (thing,) + (one,) * 4), 1)
 
 
-class WrongArguments(unittest.TestCase):
-    def raises(self, kind, given, function, *arguments, **more):
-        with self.assertRaises(kind) as caught:
-            function(*arguments, **more)
-        self.assertIs(type(caught.exception), kind)
-        self.assertIs(caught.exception.given, given)
-
-    def not_numbers(self):
-        return odd_things() + deepest_things() + [0, -1, one, "1", Fraction(1), 10 ** 399]
-
+class WrongArguments(RaisingCase):
     def test_count(self):
-        for thing in self.not_numbers() + [9, 10, 10 ** 6, -10 ** 399]:
-            self.raises(InvalidNumber, thing, even_pieces, thing)
-            self.raises(InvalidNumber, thing, even_pieces, count=thing)
+        for thing in not_counts() + [9, 10, 10 ** 6, -10 ** 399]:
+            self.raises_given(InvalidNumber, thing, even_pieces, thing)
+            self.raises_given(InvalidNumber, thing, even_pieces, count=thing)
             for function in (even_band, even_sureness, one_sided_sureness):
-                self.raises(InvalidNumber, thing, function, thing, half)
-                self.raises(InvalidNumber, thing, function, width=None, count=thing)
-            self.raises(InvalidNumber, thing, even_width_near, thing, half, 10)
-            self.raises(InvalidNumber, thing, even_width_near, many=None, share=None, count=thing)
+                self.raises_given(InvalidNumber, thing, function, thing, half)
+                self.raises_given(InvalidNumber, thing, function, width=None, count=thing)
+            self.raises_given(InvalidNumber, thing, even_width_near, thing, half, 10)
+            self.raises_given(InvalidNumber, thing, even_width_near, many=None, share=None, count=thing)
 
     def test_width(self):
         for thing in not_shares() + deepest_things():
             for function in (even_band, even_sureness, one_sided_sureness):
-                self.raises(InvalidShare, thing, function, 3, thing)
-                self.raises(InvalidShare, thing, function, width=thing, count=8)
+                self.raises_given(InvalidShare, thing, function, 3, thing)
+                self.raises_given(InvalidShare, thing, function, width=thing, count=8)
 
     def test_share(self):
         for thing in not_shares() + deepest_things() + [nil]:
-            self.raises(InvalidShare, thing, even_width_near, 3, thing, 10)
-            self.raises(InvalidShare, thing, even_width_near, 3, thing, None)
-            self.raises(InvalidShare, thing, even_width_near, many=0, share=thing, count=1)
+            self.raises_given(InvalidShare, thing, even_width_near, 3, thing, 10)
+            self.raises_given(InvalidShare, thing, even_width_near, 3, thing, None)
+            self.raises_given(InvalidShare, thing, even_width_near, many=0, share=thing, count=1)
 
     def test_many(self):
-        for thing in self.not_numbers() + [10 ** 6 + 1, -10 ** 6]:
-            self.raises(InvalidNumber, thing, even_width_near, 3, half, thing)
-            self.raises(InvalidNumber, thing, even_width_near, many=thing, count=3, share=one)
+        for thing in not_counts() + [10 ** 6 + 1, -10 ** 6]:
+            self.raises_given(InvalidNumber, thing, even_width_near, 3, half, thing)
+            self.raises_given(InvalidNumber, thing, even_width_near, many=thing, count=3, share=one)
 
     def test_what_is_just_let(self):
         for count in (1, 8):
@@ -464,9 +441,9 @@ class WrongArguments(unittest.TestCase):
             self.assertEqual(even_width_near(count, one, 10 ** 6), (10 ** 6, True))
 
     def test_that_the_first_wrong_argument_is_told(self):
-        self.raises(InvalidNumber, True, even_sureness, True, (1, 0))
-        self.raises(InvalidNumber, 0, even_width_near, 0, (2, 2), 0)
-        self.raises(InvalidShare, nil, even_width_near, 1, nil, True)
+        self.raises_given(InvalidNumber, True, even_sureness, True, (1, 0))
+        self.raises_given(InvalidNumber, 0, even_width_near, 0, (2, 2), 0)
+        self.raises_given(InvalidShare, nil, even_width_near, 1, nil, True)
 
 
 class Calls(unittest.TestCase):

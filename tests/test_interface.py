@@ -15,6 +15,22 @@ INTERFACE = {
         "least_open": ["saying"],
         "mirrored_saying": ["saying"],
     },
+    "steps": {
+        "are_shares": ["value"],
+        "closed_chance": ["saying", "shares"],
+        "open_chance": ["saying", "shares"],
+        "band_chance": ["band", "shares"],
+        "parted": ["shares", "place", "part"],
+    },
+    "boxes": {
+        "is_box": ["value"],
+        "plain_box": ["box"],
+        "box_chance": ["box"],
+        "box_table": ["box"],
+        "mirrored_box": ["box"],
+        "met_box": ["box", "other"],
+        "saying_of_box": ["box"],
+    },
     "bands": {
         "is_band": ["value"],
         "band_box": ["band"],
@@ -24,6 +40,19 @@ INTERFACE = {
         "one_sided_sureness": ["count", "width"],
         "even_pieces": ["count"],
         "even_width_near": ["count", "share", "many"],
+    },
+    "places": {
+        "place_sureness": ["count", "share", "stretch"],
+        "best_place": ["count", "share", "wish"],
+        "fewest_for_place": ["share", "wish"],
+        "places_box": ["count", "claims"],
+        "places_sureness": ["count", "claims"],
+    },
+    "held": {
+        "held_sureness": ["count", "share", "stretch"],
+        "best_held": ["count", "share", "wish"],
+        "fewest_for_held": ["share", "wish"],
+        "groups_sureness": ["count", "groups"],
     },
 }
 
