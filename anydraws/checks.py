@@ -57,7 +57,11 @@ def first_without_shares(rows):
 
 
 def check_number(value, most):
-    if not is_whole(value) or not 1 <= value <= most:
+    check_number_within(value, 1, most)
+
+
+def check_number_within(value, least, most):
+    if not is_whole(value) or not least <= value <= most:
         raise InvalidNumber(value)
 
 

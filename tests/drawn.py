@@ -2,7 +2,7 @@
 
 from collections import Counter
 from fractions import Fraction
-from itertools import combinations_with_replacement
+from itertools import combinations_with_replacement, product
 from math import comb, factorial, gcd
 
 nil, one = (0, 1), (1, 1)
@@ -69,6 +69,15 @@ def wide_band(rng, n):
     return (low, high)
 
 
+def drawn_stretches(rng, n, many):
+    """So many stretches, each one from the end of the one before it on, or later."""
+    while True:
+        ends = sorted(rng.randint(0, n + 1) for _ in range(2 * many))
+        stretches = list(zip(ends[::2], ends[1::2]))
+        if all(i < j for i, j in stretches):
+            return stretches
+
+
 def all_throws(throws, chances):
     """All ways in which throws fall, alike counts together: pairs of the places in order and their chance."""
     for places in combinations_with_replacement(range(len(chances)), throws):
@@ -77,6 +86,16 @@ def all_throws(throws, chances):
             chance *= chances[place] ** number_of
             chance /= factorial(number_of)
         yield places, chance
+
+
+def lots_up_to(letters):
+    """All pairs of two numbers of draws, each one at least, with so many letters together at most."""
+    return [(n, m) for n in range(1, letters) for m in range(1, letters - n + 1)]
+
+
+def own_words(n, m):
+    """All words of n a's and m b's, ascending."""
+    return [word for word in product((0, 1), repeat=n + m) if sum(word) == m]
 
 
 def opposite(row):
@@ -179,6 +198,11 @@ def not_counts():
     return odd_things() + deepest_things() + [0, -1, one, "1", Fraction(1), 10 ** 399, -10 ** 399]
 
 
+def not_numbers_from_nought():
+    """Values that are no whole number from 0 on that is small."""
+    return [thing for thing in not_counts() if type(thing) is not int or thing != 0]
+
+
 def not_shares():
     return not_fractions() + [(-1, 2), (3, 2), (2, 1), (-1, 1), (10 ** 399 + 1, 10 ** 399), (-1, 10 ** 399)]
 
@@ -212,6 +236,17 @@ def not_stretches(n):
         ((0, 1), (1, 1)), (0, 1, n + 1), {0: 0, 1: 1}, "01", 1, (n + 1, 0), (0, [1]),
     ]
     return wrong + deepest_things()
+
+
+def not_words():
+    """Values that are no word."""
+    wrong = [thing for thing in odd_things() if repr(thing) != "(0, 1, 1)"]
+    return wrong + deepest_things() + [
+        (0,), (1,), (0, 0), (1, 1), (0,) * 10, (1,) * 10, (0,) * 5 + (1,) * 6, (0, 1) * 6, (0,) * 10 + (1,),
+        (0, 1) * 150, [0, 1], "01", b"01", (0, True), (False, 1), (False, True), (0, 1, 2), (0, 1, -1), (0, 1, None),
+        (0, 1, nil), ((0,), (1,)), ((0, 1),), (0, (1,)), (0, "1"), ("0", "1"), {0: 0, 1: 1}, (0, 1, [0]), 0, 1,
+        (0, Fraction(1)), (2, 1), (0, 2), (-1, 0), (0, 10 ** 399), (0, 1, 10 ** 399), {0, 1}, range(2),
+    ]
 
 
 def deepest_things():

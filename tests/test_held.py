@@ -8,8 +8,8 @@ from anydraws.errors import InvalidGroups, InvalidNumber, InvalidShare, InvalidS
 from anydraws.held import best_held, fewest_for_held, groups_sureness, held_sureness
 from anydraws.sayings import saying_chance
 from tests.drawn import (
-    all_throws, deepest_things, drawn_atoms, drawn_inner_share, drawn_share, is_told_fraction, not_counts,
-    not_inner_shares, not_shares, not_stretches, not_wishes, number, odd_things, pair,
+    all_throws, deepest_things, drawn_atoms, drawn_inner_share, drawn_share, drawn_stretches, is_told_fraction,
+    not_counts, not_inner_shares, not_shares, not_stretches, not_wishes, number, odd_things, pair,
 )
 from tests.raising import RaisingCase
 
@@ -21,15 +21,6 @@ TINY = Fraction(1, 10 ** 90)
 def held_sum(n, p, blocks):
     """The sum of [19], p being a number."""
     return sum((comb(n, k) * p ** k * (1 - p) ** (n - k) for k in range(blocks)), Fraction(0))
-
-
-def drawn_stretches(rng, n, many):
-    """So many stretches, each one from the end of the one before it on, or later."""
-    while True:
-        ends = sorted(rng.randint(0, n + 1) for _ in range(2 * many))
-        stretches = list(zip(ends[::2], ends[1::2]))
-        if all(i < j for i, j in stretches):
-            return stretches
 
 
 def drawn_groups(rng, n, most_groups=3):
