@@ -98,6 +98,13 @@ def own_words(n, m):
     return [word for word in product((0, 1), repeat=n + m) if sum(word) == m]
 
 
+def best_even(counts, wish):
+    """The greatest i for which the counts from i on, as many left out at both ends, are as many as wished."""
+    many = len(counts) - 1
+    return max(i for i in range(many + 1) if i < many + 1 - i
+               and Fraction(sum(counts[i:many + 1 - i]), sum(counts)) >= wish)
+
+
 def opposite(row):
     return tuple((-n, m) for n, m in row)
 

@@ -87,6 +87,37 @@ INTERFACE = {
         "closed_up": ["words"],
         "lowest_words": ["words"],
     },
+    "shifts": {
+        "pair_counts": ["n", "m"],
+        "shift_sureness": ["n", "m", "i", "j"],
+        "differences": ["first", "second"],
+        "shift_stretch": ["first", "second", "i", "j"],
+        "best_shift": ["n", "m", "wish"],
+    },
+    "centres": {
+        "sum_counts": ["n"],
+        "centre_sureness": ["n", "i", "j"],
+        "means_of_two": ["values"],
+        "centre_stretch": ["values", "i", "j"],
+        "best_centre": ["n", "wish"],
+        "sign_word": ["values", "centre"],
+        "low_sum": ["word"],
+    },
+    "checker": {
+        "accepts": ["claim", "paper"],
+    },
+    "certificates": {
+        "certify_possible": ["saying"],
+        "certify_least": ["saying", "share"],
+        "certify_band": ["band", "share"],
+        "certify_places": ["count", "claims", "wish"],
+        "certify_held": ["count", "groups", "wish"],
+        "certify_further": ["count", "further", "groups", "wish"],
+        "certify_closed": ["words"],
+        "certify_best": ["words", "power"],
+        "certify_shift": ["n", "m", "i", "j"],
+        "certify_centre": ["n", "i", "j"],
+    },
 }
 
 
