@@ -95,7 +95,6 @@ def shows_not_best(parts, paper):
 
 def has_share(parts):
     saying, share = parts
-    check_saying(saying)
     check_share(share)
     return not is_below(saying_chance(saying), share)
 
